@@ -1,0 +1,1 @@
+"""Everyparcel: a parcel house that tells exactly where each parcel can be."""

@@ -1,0 +1,110 @@
+"""The opening of "The interface": names, arguments, and where each of them is defined."""
+
+import importlib
+import inspect
+import unittest
+
+FUNCTIONS = {
+    "network": ["is_name(text)"],
+    "timetable": [
+        "daily(hour, first, days)", "repeated(trip, every, times)", "trip_text(trip)", "read_trip(line)",
+        "timetable_text(network)",
+    ],
+    "tables": ["is_address(text)"],
+    "sorting": ["check_ranks(sorting, address, ranks)", "parting_sites(one, other, entries)"],
+}
+
+# The methods of a class follow its own line; a name without parentheses is a property.
+CLASSES = {
+    "errors": {
+        "ParcelError": [],
+        "Invalid(what)": [],
+        "Unknown(name)": [],
+        "TooMany(limit, tick)": [],
+        "Contradiction": [],
+        "BadManifest(text)": [],
+        "BadLine(line)": [],
+        "Late(tick)": [],
+        "Refused(days, course)": [],
+    },
+    "network": {
+        "Site(name, house, land, code, *, rounds=(), sittings=(), searches=(), lag=None)": [],
+        "Trip(name, start, goal, leaves, lands, *, late=0, room=9, toll=0)": [],
+        "Closing(name, start, goal, tick, *, size=9)": [],
+        "Network(sites, trips, closings)": [
+            "without_trip(name)", "site(name)", "trip(name)", "closing(name)", "house_of(kind, name)",
+        ],
+    },
+    "tables": {
+        "Table(rows)": [
+            "rows", "parting(other)", "least()", "changed(prefix, lane)", "written(**lanes)", "__call__(address)",
+            "__eq__(other)", "__len__()",
+        ],
+    },
+    "sorting": {
+        "Sorting(tables)": [
+            "names()", "table(site)", "changed(site, prefix, lane)", "lane(site, address)", "path(site, address)",
+            "via(site, goal, address)", "marks()", "mark(address)", "unmarked()", "tests()", "faults(sites)",
+            "ranks(address)",
+        ],
+    },
+}
+
+CONSTANTS = {"timetable": {"DAY": 24}, "tables": {"HERE": ""}}
+
+
+def module_of(name):
+    return importlib.import_module(f"everyparcel.{name}")
+
+
+def parameters(function, own):
+    """The parameters in parentheses, without the first one if the function is a method of an object."""
+    found = list(inspect.signature(function).parameters.values())
+    return str(inspect.Signature(found[1:] if own else found))
+
+
+def told_member(member, name):
+    if isinstance(member, property):
+        return name
+    if isinstance(member, staticmethod):
+        return name + parameters(member.__func__, False)
+    return name + parameters(member, True)
+
+
+class InterfaceTest(unittest.TestCase):
+    def test_the_functions(self):
+        for file, lines in FUNCTIONS.items():
+            for line in lines:
+                name = line.split("(")[0]
+                function = getattr(module_of(file), name)
+                self.assertTrue(inspect.isfunction(function), line)
+                self.assertEqual(name + parameters(function, False), line)
+                self.assertEqual(function.__module__, f"everyparcel.{file}", line)
+
+    def test_the_classes(self):
+        for file, lines in CLASSES.items():
+            for line in lines:
+                name = line.split("(")[0]
+                kind = getattr(module_of(file), name)
+                self.assertTrue(inspect.isclass(kind), line)
+                self.assertEqual(kind.__module__, f"everyparcel.{file}", line)
+                if "(" in line:
+                    self.assertEqual(name + parameters(vars(kind)["__init__"], True), line)
+
+    def test_the_methods_stand_in_the_class_itself(self):
+        for file, lines in CLASSES.items():
+            for line, methods in lines.items():
+                kind = getattr(module_of(file), line.split("(")[0])
+                for method in methods:
+                    name = method.split("(")[0]
+                    self.assertIn(name, vars(kind), line)
+                    self.assertEqual(told_member(vars(kind)[name], name), method)
+
+    def test_the_constants(self):
+        for file, values in CONSTANTS.items():
+            for name, value in values.items():
+                self.assertEqual(getattr(module_of(file), name), value)
+
+
+if __name__ == "__main__":
+    unittest.main()
