@@ -80,7 +80,8 @@ class Table:
 
     def changed(self, prefix, lane):
         """The table in which the row of that prefix has that lane, or is dropped if the lane is None."""
-        if not is_address(prefix) or not (lane is None or _is_lane(lane)):
+        # A wrong lane is found by the new table, but a dropped row does not come to it.
+        if not is_address(prefix):
             raise Invalid("table")
         lanes = dict(self._lanes)
         if lane is not None:
