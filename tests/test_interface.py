@@ -12,6 +12,14 @@ FUNCTIONS = {
     ],
     "tables": ["is_address(text)"],
     "sorting": ["check_ranks(sorting, address, ranks)", "parting_sites(one, other, entries)"],
+    "routes": [
+        "soonest(network, start, goal, tick)", "surely(network, start, goal, tick)",
+        "last_chance(network, start, goal, by)", "landing_ticks(network, path, tick)",
+    ],
+    "manifests": [
+        "manifest(nest, unit)", "read_manifest(text)", "nest_of(values, place)", "weight(nest, unit, weights)",
+        "difference(one, other)",
+    ],
 }
 
 # The methods of a class follow its own line; a name without parentheses is a property.
@@ -46,6 +54,24 @@ CLASSES = {
             "names()", "table(site)", "changed(site, prefix, lane)", "lane(site, address)", "path(site, address)",
             "via(site, goal, address)", "marks()", "mark(address)", "unmarked()", "tests()", "faults(sites)",
             "ranks(address)",
+        ],
+    },
+    "nests": {
+        "Nest(places)": [
+            "all_places", "place(unit)", "top(unit)", "position(unit)", "contents(bag)", "inside(unit)", "rank(unit)",
+            "depth(unit)", "lying(place)", "moved(unit, place)", "packed(bag, *units)", "emptied(bag)",
+            "__eq__(other)", "__contains__(unit)", "__len__()",
+        ],
+    },
+    "goods": {"Good(heading, worth, land, parts=())": ["worth"]},
+    "parcels": {
+        "Parcel(ticket, address, start, taken, *, weight=1, days=None, sender='sender', receiver='receiver', goods=())":
+            ["worth", "due"],
+    },
+    "worlds": {
+        "World(network, sorting, parcels, *, tariffs=None, slips=0, wait=None)": [
+            "parcel(ticket)", "claim_tick(ticket)", "first(count)", "only(ticket)", "added(parcel)",
+            "with_slips(slips)", "with_sorting(sorting)", "with_network(network)",
         ],
     },
 }

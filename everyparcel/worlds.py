@@ -1,0 +1,81 @@
+"""The world: what is fixed before anything happens (point 42)."""
+
+from everyparcel.errors import Invalid, Unknown
+from everyparcel.timetable import DAY
+
+
+def _network_ticks(network):
+    """The ticks at which sites, trips and closings can do something."""
+    ticks = [closing.tick for closing in network.closings]
+    for site in network.sites:
+        ticks.extend(site.rounds + site.sittings + site.searches)
+    for trip in network.trips:
+        ticks.append(trip.leaves)
+        ticks.extend(list(range(trip.lands, trip.lands + trip.late + 1)))
+    return ticks
+
+
+class World:
+    """A network, a sorting and parcels."""
+
+    def __init__(self, network, sorting, parcels, *, tariffs=None, slips=0, wait=None):
+        self.network = network
+        self.sorting = sorting
+        self.parcels = tuple(sorted(parcels, key=lambda parcel: parcel.ticket))
+        self.tariffs = {} if tariffs is None else dict(tariffs)
+        self.slips = slips
+        self.wait = wait
+        self.tickets = [parcel.ticket for parcel in self.parcels]
+        self.units = self.tickets + [closing.name for closing in network.closings]
+        self._parcels = {parcel.ticket: parcel for parcel in self.parcels}
+        sites = [site.name for site in network.sites]
+        if len(self._parcels) < len(self.parcels) or not all([parcel.start in sites for parcel in self.parcels]):
+            raise Invalid("world")
+        if slips < 0 or (wait is not None and wait < 0):
+            raise Invalid("world")
+        self.ticks = sorted(set(_network_ticks(network) + self._parcel_ticks()))
+        self.until = self.ticks[-1] if self.ticks else 0
+
+    def _parcel_ticks(self):
+        claims = [self.claim_tick(ticket) for ticket in self.tickets]
+        return [parcel.taken for parcel in self.parcels] + [tick for tick in claims if tick is not None]
+
+    def _with(self, network, sorting, parcels, slips):
+        return World(network, sorting, parcels, tariffs=self.tariffs, slips=slips, wait=self.wait)
+
+    def parcel(self, ticket):
+        """The parcel of that ticket."""
+        if ticket not in self._parcels:
+            raise Unknown(ticket)
+        return self._parcels[ticket]
+
+    def claim_tick(self, ticket):
+        """The tick at which the parcel is claimed if it is not out, or None."""
+        due = self.parcel(ticket).due
+        if due is None or self.wait is None:
+            return None
+        return due + DAY * self.wait
+
+    def first(self, count):
+        """The world with only the lowest tickets."""
+        return self._with(self.network, self.sorting, self.parcels[:count], self.slips)
+
+    def only(self, ticket):
+        """The world with only that parcel."""
+        return self._with(self.network, self.sorting, [self.parcel(ticket)], self.slips)
+
+    def added(self, parcel):
+        """The world with one more parcel."""
+        return self._with(self.network, self.sorting, list(self.parcels) + [parcel], self.slips)
+
+    def with_slips(self, slips):
+        """The world with that many slips."""
+        return self._with(self.network, self.sorting, self.parcels, slips)
+
+    def with_sorting(self, sorting):
+        """The world with that sorting."""
+        return self._with(self.network, sorting, self.parcels, self.slips)
+
+    def with_network(self, network):
+        """The world with that network."""
+        return self._with(network, self.sorting, self.parcels, self.slips)
