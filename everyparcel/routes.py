@@ -65,7 +65,7 @@ def _taken(trips, ticks):
     return taken
 
 
-def _landings(trips):
+def every_landing(trips):
     """The ascending ticks at which one of the trips can land."""
     landings = []
     free = 0
@@ -84,5 +84,5 @@ def landing_ticks(network, path, tick):
         network.site(site)
     ticks = [tick]
     for start, goal in zip(path, path[1:]):
-        ticks = _landings(_taken(_rides_between(network, start, goal), ticks))
+        ticks = every_landing(_taken(_rides_between(network, start, goal), ticks))
     return ticks

@@ -1,18 +1,9 @@
 """The world: what is fixed before anything happens (point 42)."""
 
+from everyparcel.agenda import Agenda
 from everyparcel.errors import Invalid, Unknown
+from everyparcel.routes import every_landing
 from everyparcel.timetable import DAY
-
-
-def _network_ticks(network):
-    """The ticks at which sites, trips and closings can do something."""
-    ticks = [closing.tick for closing in network.closings]
-    for site in network.sites:
-        ticks.extend(site.rounds + site.sittings + site.searches)
-    for trip in network.trips:
-        ticks.append(trip.leaves)
-        ticks.extend(list(range(trip.lands, trip.lands + trip.late + 1)))
-    return ticks
 
 
 class World:
@@ -28,17 +19,31 @@ class World:
         self.tickets = [parcel.ticket for parcel in self.parcels]
         self.units = self.tickets + [closing.name for closing in network.closings]
         self._parcels = {parcel.ticket: parcel for parcel in self.parcels}
+        self._numbers = {unit: number for number, unit in enumerate(self.units)}
         sites = [site.name for site in network.sites]
         if len(self._parcels) < len(self.parcels) or not all([parcel.start in sites for parcel in self.parcels]):
             raise Invalid("world")
         if slips < 0 or (wait is not None and wait < 0):
             raise Invalid("world")
-        self.ticks = sorted(set(_network_ticks(network) + self._parcel_ticks()))
+        self.agenda = Agenda()
+        self._fill_agenda()
+        self.ticks = sorted(set(self.agenda.all_ticks() + every_landing(network.trips)))
         self.until = self.ticks[-1] if self.ticks else 0
 
-    def _parcel_ticks(self):
-        claims = [self.claim_tick(ticket) for ticket in self.tickets]
-        return [parcel.taken for parcel in self.parcels] + [tick for tick in claims if tick is not None]
+    def _fill_agenda(self):
+        """Enters all that has a tick of its own: a landing has none, since its trip may be late."""
+        for site in self.network.sites:
+            self.agenda.enter("found", site.searches, site)
+            self.agenda.enter("cleared", site.sittings, site)
+            self.agenda.enter("out", site.rounds, site)
+        for closing in self.network.closings:
+            self.agenda.enter("packed", [closing.tick], closing)
+        for trip in self.network.trips:
+            self.agenda.enter("loaded", [trip.leaves], trip)
+        for parcel in self.parcels:
+            self.agenda.enter("taken", [parcel.taken], parcel)
+            claim = self.claim_tick(parcel.ticket)
+            self.agenda.enter("claimed", [] if claim is None else [claim], parcel)
 
     def _with(self, network, sorting, parcels, slips):
         return World(network, sorting, parcels, tariffs=self.tariffs, slips=slips, wait=self.wait)
@@ -48,6 +53,12 @@ class World:
         if ticket not in self._parcels:
             raise Unknown(ticket)
         return self._parcels[ticket]
+
+    def number(self, unit):
+        """Where the unit stands in the list of all units, counted from 0."""
+        if unit not in self._numbers:
+            raise Unknown(unit)
+        return self._numbers[unit]
 
     def claim_tick(self, ticket):
         """The tick at which the parcel is claimed if it is not out, or None."""

@@ -54,9 +54,34 @@ EXAMPLES = {
 >>> read_manifest("b1(3 b0(4 9) 7)")
 ('b1', [3, ('b0', [4, 9]), 7])
 """,
+    "goods": """
+>>> origin(Good("8703", 1000, "li", [Good("8708", 600, "no")]))
+'no'
+
+>>> origin_paper(Good("8703", 1000, "li", [Good("8708", 500, "no")]))
+('value', 'li', [('made', 'no', [])])
+""",
+    "duties": """
+>>> share_out(10, [1, 1, 1])
+[4, 3, 3]
+""",
     "worlds": """
 >>> world.ticks
 [3, 5, 8, 9, 10, 20, 44]
+""",
+    "standings": """
+>>> first_standing(world)
+(0, (('not', ''),), ('x',))
+
+>>> steps(world, first_standing(world), 3)
+[(((3, 'taken', 1, 's'),), (0, (('at', 's'),), ('x',)))]
+""",
+    "runs": """
+>>> run(world).events
+[(3, 'taken', 1, 's'), (5, 'loaded', 1, 't1'), (8, 'landed', 1, 'n'), (20, 'out', 1, 'n')]
+
+>>> list(courses(world))
+[((), ()), ((('t1', 1),), ()), ((('t1', 2),), ())]
 """,
 }
 

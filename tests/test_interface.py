@@ -20,6 +20,12 @@ FUNCTIONS = {
         "manifest(nest, unit)", "read_manifest(text)", "nest_of(values, place)", "weight(nest, unit, weights)",
         "difference(one, other)",
     ],
+    "goods": ["origin(good, share=50)", "origin_paper(good, share=50)", "check_origin(good, share, paper)"],
+    "duties": ["duties(tariff, parcels)", "share_out(total, weights)", "clears(tariffs, land, parcel)"],
+    "standings": ["first_standing(world)", "position(world, standing, unit)", "steps(world, standing, tick)"],
+    "runs": [
+        "run(world, course=((), ()))", "courses(world)", "count_courses(world, *, most=500)", "events_table(events)",
+    ],
 }
 
 # The methods of a class follow its own line; a name without parentheses is a property.
@@ -64,6 +70,9 @@ CLASSES = {
         ],
     },
     "goods": {"Good(heading, worth, land, parts=())": ["worth"]},
+    "tariffs": {
+        "Tariff(land, rows, *, free=0, share=50)": ["rows", "rate(heading, origin)", "admits(goods)", "parting(other)"],
+    },
     "parcels": {
         "Parcel(ticket, address, start, taken, *, weight=1, days=None, sender='sender', receiver='receiver', goods=())":
             ["worth", "due"],
@@ -74,9 +83,12 @@ CLASSES = {
             "with_slips(slips)", "with_sorting(sorting)", "with_network(network)",
         ],
     },
+    "runs": {"Run": ["world", "standing(tick)", "position(unit, tick)", "delivered(ticket)"]},
 }
 
-CONSTANTS = {"timetable": {"DAY": 24}, "tables": {"HERE": ""}}
+CONSTANTS = {
+    "timetable": {"DAY": 24}, "tables": {"HERE": ""}, "tariffs": {"ANY": "", "BARRED": None}, "standings": {"MOST": 500},
+}
 
 
 def module_of(name):
@@ -125,6 +137,9 @@ class InterfaceTest(unittest.TestCase):
                     name = method.split("(")[0]
                     self.assertIn(name, vars(kind), line)
                     self.assertEqual(told_member(vars(kind)[name], name), method)
+
+    def test_the_generator(self):
+        self.assertTrue(inspect.isgeneratorfunction(module_of("runs").courses))
 
     def test_the_constants(self):
         for file, values in CONSTANTS.items():

@@ -184,7 +184,8 @@ class StatementsTest(unittest.TestCase):
                     top.append(node.targets[0].id)
             self.assertEqual(len(top), len(set(top)), path)
             for name in bound_names(tree):
-                self.assertFalse(hasattr(builtins, name), (path, name))
+                # Where a test has shown a value, Python keeps it as a builtin `_`.
+                self.assertFalse(name != "_" and hasattr(builtins, name), (path, name))
                 self.assertRegex(name, r"^_?[A-Za-z][A-Za-z0-9_]*$|^_$", path)
 
     def test_locals_do_not_hide_imports_and_classes(self):

@@ -1,0 +1,139 @@
+"""Courses, and the runs that they fix (points 43 to 47, 49, 50 and 54)."""
+
+from everyparcel.errors import Invalid, TooMany
+from everyparcel.scenes import all_played, played
+from everyparcel.standings import MOST, first_standing, position, steps
+
+
+class Plan:
+    """The choices of a course."""
+
+    def __init__(self, course):
+        late, lost = course
+        self._extras = dict(late)
+        self._lost = {pair: True for pair in lost}
+
+    def lands_now(self, trip, tick):
+        """Whether the trip lands at the tick, where it may still be late."""
+        return tick == trip.lands + self._extras.get(trip.name, 0)
+
+    def is_loaded(self, trip, unit):
+        """Whether the unit to which the trip comes is loaded, where it can be mislaid."""
+        return (trip.name, unit) not in self._lost
+
+
+def _is_late(world, late):
+    """Whether each trip is one of the world and named once, with an extra that it can have."""
+    trips = {trip.name: trip for trip in world.network.trips}
+    if len(set([name for name, extra in late])) < len(late):
+        return False
+    return all([name in trips and 0 <= extra <= trips[name].late for name, extra in late])
+
+
+def _is_lost(world, lost):
+    """Whether the pairs are not too many and each of them is named once."""
+    return len(set(lost)) == len(lost) <= world.slips
+
+
+def _in_one_form(world, late, lost):
+    """The course of all pairs that a run has made, with the trips in network order."""
+    extras = dict(late)
+    late = [(trip.name, extras[trip.name]) for trip in world.network.trips if trip.name in extras]
+    return (tuple(late), tuple(lost))
+
+
+def _count_until(ticks, tick):
+    """How many of the ascending ticks are at most the tick."""
+    low, high = 0, len(ticks)
+    while low < high:
+        middle = (low + high) // 2
+        if ticks[middle] <= tick:
+            low = middle + 1
+        else:
+            high = middle
+    return low
+
+
+class Run:
+    """What befalls in a world by one course."""
+
+    def __init__(self, world, course):
+        if not _is_late(world, course[0]) or not _is_lost(world, course[1]):
+            raise Invalid("course")
+        self.events = []
+        self._world = world
+        self._standings = [first_standing(world)]
+        late = []
+        lost = []
+        plan = Plan(course)
+        for tick in world.ticks:
+            scene = played(world, self._standings[-1], tick, plan)
+            self.events.extend(scene.events)
+            self._standings.append(scene.standing())
+            late.extend(scene.late)
+            lost.extend(scene.lost)
+        # Each pair that was met is one of the course's: if some are missing, no trip came to their units.
+        if len(lost) < len(course[1]):
+            raise Invalid("course")
+        self.course = _in_one_form(world, late, lost)
+        self._ends = {unit: tick for tick, kind, unit, where in self.events if kind == "out"}
+
+    @property
+    def world(self):
+        """The world of the run."""
+        return self._world
+
+    def standing(self, tick):
+        """The standing after the tick."""
+        return self._standings[_count_until(self._world.ticks, tick)]
+
+    def position(self, unit, tick):
+        """The position of the unit after the tick."""
+        return position(self._world, self.standing(tick), unit)
+
+    def delivered(self, ticket):
+        """The tick at which the parcel was delivered, or None."""
+        return self._ends.get(self._world.parcel(ticket).ticket)
+
+
+def run(world, course=((), ())):
+    """The run of the course."""
+    return Run(world, course)
+
+
+def courses(world):
+    """All courses in their one form, in the order of their choices."""
+    waiting = [(0, first_standing(world), (), ())]
+    while waiting:
+        number, standing, late, lost = waiting.pop()
+        if number == len(world.ticks):
+            yield _in_one_form(world, late, lost)
+        else:
+            scenes = all_played(world, standing, world.ticks[number])
+            # What is put there last is taken first: the scenes go in from behind.
+            for scene in scenes[::-1]:
+                waiting.append((number + 1, scene.standing(), late + tuple(scene.late), lost + tuple(scene.lost)))
+
+
+def _counts_after(world, counts, tick, most):
+    """In how many ways each standing after the tick is reached, by those before it."""
+    found = {}
+    for standing, count in counts.items():
+        for _, after in steps(world, standing, tick):
+            found[after] = found.get(after, 0) + count
+            if len(found) > most:
+                raise TooMany(most, tick)
+    return found
+
+
+def count_courses(world, *, most=MOST):
+    """How many courses there are."""
+    counts = {first_standing(world): 1}
+    for tick in world.ticks:
+        counts = _counts_after(world, counts, tick, most)
+    return sum(list(counts.values()))
+
+
+def events_table(events):
+    """One line for each event."""
+    return "".join([f"{tick:>7} {kind:<8} {unit:>12} {where}\n" for tick, kind, unit, where in events])
