@@ -26,6 +26,16 @@ FUNCTIONS = {
     "runs": [
         "run(world, course=((), ()))", "courses(world)", "count_courses(world, *, most=500)", "events_table(events)",
     ],
+    "apart": [
+        "earlier_course(world, count, course)", "later_course(world, count, course)", "crowded(world, *, most=500)",
+        "apart_world(one, other, entries)",
+    ],
+    "records": ["record_house(network, record)", "happened(world, run, record)"],
+    "books": ["exchange(books, meetings)", "heard_of(count, meetings)"],
+    "truths": [
+        "fits(world, run, book)", "misfits(world, run, book)", "truth(world, run, now, *, failed=(), behind=None)",
+    ],
+    "booktexts": ["book_text(book)", "read_book(text)"],
 }
 
 # The methods of a class follow its own line; a name without parentheses is a property.
@@ -81,6 +91,13 @@ CLASSES = {
         "World(network, sorting, parcels, *, tariffs=None, slips=0, wait=None)": [
             "parcel(ticket)", "claim_tick(ticket)", "first(count)", "only(ticket)", "added(parcel)",
             "with_slips(slips)", "with_sorting(sorting)", "with_network(network)",
+        ],
+    },
+    "books": {
+        "Book(heard=None, records=(), struck=())": [
+            "heard", "records", "struck", "valid", "empty()", "hear(house, tick)", "note(record)", "strike(record)",
+            "take(*others)", "lacks(other)", "part(network, house)", "__add__(other)", "__eq__(other)",
+            "__contains__(record)", "__len__()",
         ],
     },
     "runs": {"Run": ["world", "standing(tick)", "position(unit, tick)", "delivered(ticket)"]},
