@@ -30,11 +30,6 @@ def _is_late(world, late):
     return all([name in trips and 0 <= extra <= trips[name].late for name, extra in late])
 
 
-def _is_lost(world, lost):
-    """Whether the pairs are not too many and each of them is named once."""
-    return len(set(lost)) == len(lost) <= world.slips
-
-
 def _in_one_form(world, late, lost):
     """The course of all pairs that a run has made, with the trips in network order."""
     extras = dict(late)
@@ -58,7 +53,7 @@ class Run:
     """What befalls in a world by one course."""
 
     def __init__(self, world, course):
-        if not _is_late(world, course[0]) or not _is_lost(world, course[1]):
+        if not _is_late(world, course[0]):
             raise Invalid("course")
         self.events = []
         self._world = world
@@ -72,7 +67,8 @@ class Run:
             self._standings.append(scene.standing())
             late.extend(scene.late)
             lost.extend(scene.lost)
-        # Each pair that was met is one of the course's: if some are missing, no trip came to their units.
+        # The run makes only pairs of the course, each of them once and no more than there are slips. So it makes fewer
+        # if one stands there twice, is one too many, or tells of a trip that does not come to its unit.
         if len(lost) < len(course[1]):
             raise Invalid("course")
         self.course = _in_one_form(world, late, lost)

@@ -1,7 +1,7 @@
 """What a land lets in, and at which rate (point 38)."""
 
 from everyparcel.errors import Invalid
-from everyparcel.goods import origin as origin_of
+from everyparcel.goods import origin_paper
 from everyparcel.network import is_name
 from everyparcel.spelling import DIGITS, LETTERS
 from everyparcel.tables import by_length, is_address
@@ -54,7 +54,12 @@ class Tariff:
 
     def admits(self, goods):
         """Whether none of the goods is barred."""
-        return all([self.rate(good.heading, origin_of(good, self.share)) != BARRED for good in goods])
+        return BARRED not in [self._rate_of(good) for good in goods]
+
+    def _rate_of(self, good):
+        """The rate of the good by its own heading and origin."""
+        # The origin is read off the certificate, since the word names a parameter of this class.
+        return self.rate(good.heading, origin_paper(good, self.share)[1])
 
     def parting(self, other):
         """The least heading and origin for which the rates differ, or None."""

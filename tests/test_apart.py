@@ -86,6 +86,14 @@ class EarlierTest(unittest.TestCase):
         for count in (2, 9):
             self.assertEqual(later_course(self.world, count, course), ((("t", 1), ("u", 2), ("v", 1)), ()))
 
+    def test_a_course_to_which_both_lead_back(self):
+        course = ((("t", 1), ("v", 2)), (("u", 3),))
+        self.assertEqual(later_course(self.world, 2, earlier_course(self.world, 2, course)), course)
+        course = ((("t", 1), ("v", 2)), ())
+        for count in (1, 2, 3):
+            self.assertEqual(earlier_course(self.world, count, later_course(self.world, count, course)), course)
+            self.assertEqual(later_course(self.world, count, earlier_course(self.world, count, course)), course)
+
     def test_the_errors_of_run(self):
         wrong = invalid("course")
         self.assertEqual(raised(earlier_course, self.world, 1, ((("w", 0),), ())), wrong)

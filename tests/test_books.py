@@ -53,8 +53,9 @@ class BookTest(unittest.TestCase):
         self.assertEqual(Book({"": -1}, [record]).records, [record])
 
     def test_len_and_in(self):
-        book = Book({}, [ONE, TWO], [TWO, THREE])
-        self.assertEqual(len(book), 1)
+        book = Book({}, [ONE, TWO, (0, "out", 7, "a")], [TWO, THREE])
+        self.assertEqual(len(book), 2)
+        self.assertEqual([len(Book()), len(Book({"h": 1}, [], [ONE])), len(Book({}, [ONE], [ONE]))], [0, 0, 0])
         self.assertEqual([record in book for record in (ONE, TWO, THREE, (0, "out", 1, "a"))], [True, False, False, False])
 
     def test_equal_books(self):
