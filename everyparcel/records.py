@@ -19,11 +19,16 @@ def record_house(network, record):
     return network.house_of(WHERES[kind], where)
 
 
+def check_record(world, record):
+    """Raises an error if the record is none that can be looked up in the world."""
+    record_house(world.network, record)
+    world.number(record[2])
+
+
 def happened(world, run, record):
     """Whether the record is true in the run."""
+    check_record(world, record)
     tick, kind, unit, where = record
-    record_house(world.network, record)
-    world.number(unit)
     if kind in POSITIONS:
         return run.position(unit, tick) == (POSITIONS[kind], where)
     return record in run.events

@@ -1,8 +1,9 @@
 """Courses, and the runs that they fix (points 43 to 47, 49, 50 and 54)."""
 
 from everyparcel.errors import Invalid, TooMany
-from everyparcel.scenes import all_played, played
+from everyparcel.scenes import played
 from everyparcel.standings import MOST, first_standing, position, steps
+from everyparcel.stepping import walks
 
 
 class Plan:
@@ -37,16 +38,10 @@ def _in_one_form(world, late, lost):
     return (tuple(late), tuple(lost))
 
 
-def _count_until(ticks, tick):
-    """How many of the ascending ticks are at most the tick."""
-    low, high = 0, len(ticks)
-    while low < high:
-        middle = (low + high) // 2
-        if ticks[middle] <= tick:
-            low = middle + 1
-        else:
-            high = middle
-    return low
+def course_of(world, walk):
+    """The course that the steps make, one for each tick of the world."""
+    late = [pair for step in walk for pair in step.late]
+    return _in_one_form(world, late, [pair for step in walk for pair in step.lost])
 
 
 class Run:
@@ -81,7 +76,7 @@ class Run:
 
     def standing(self, tick):
         """The standing after the tick."""
-        return self._standings[_count_until(self._world.ticks, tick)]
+        return self._standings[self._world.layer_of(tick)]
 
     def position(self, unit, tick):
         """The position of the unit after the tick."""
@@ -99,16 +94,8 @@ def run(world, course=((), ())):
 
 def courses(world):
     """All courses in their one form, in the order of their choices."""
-    waiting = [(0, first_standing(world), (), ())]
-    while waiting:
-        number, standing, late, lost = waiting.pop()
-        if number == len(world.ticks):
-            yield _in_one_form(world, late, lost)
-        else:
-            scenes = all_played(world, standing, world.ticks[number])
-            # What is put there last is taken first: the scenes go in from behind.
-            for scene in scenes[::-1]:
-                waiting.append((number + 1, scene.standing(), late + tuple(scene.late), lost + tuple(scene.lost)))
+    for walk in walks(world):
+        yield course_of(world, walk)
 
 
 def _counts_after(world, counts, tick, most):

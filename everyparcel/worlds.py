@@ -60,6 +60,17 @@ class World:
             raise Unknown(unit)
         return self._numbers[unit]
 
+    def layer_of(self, tick):
+        """How many of the world's ticks are at most the tick: the number of the layer to which it belongs."""
+        low, high = 0, len(self.ticks)
+        while low < high:
+            middle = (low + high) // 2
+            if self.ticks[middle] <= tick:
+                low = middle + 1
+            else:
+                high = middle
+        return low
+
     def claim_tick(self, ticket):
         """The tick at which the parcel is claimed if it is not out, or None."""
         due = self.parcel(ticket).due
