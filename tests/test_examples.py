@@ -87,6 +87,37 @@ EXAMPLES = {
 >>> heard_of(3, [(0, 1), (1, 2)])
 [[0, 1], [0, 1, 2], [0, 1, 2]]
 """,
+    "tellings": """
+>>> from everyparcel.books import Book
+>>> places(world, Book(), 1, 9)
+[('at', 'n'), ('on', 't1')]
+
+>>> from everyparcel.books import Book
+>>> places(world, Book({}, [(8, "landed", 1, "n")]), 1, 9)
+[('at', 'n')]
+""",
+    "scanners": """
+>>> fewest_scanners(world)
+['n']
+""",
+    "promises": """
+>>> delivery_ticks(world, 1)
+([20], False)
+""",
+    "quotes": """
+>>> needs(world, 1, 0)
+['t1']
+""",
+    "ledgers": """
+>>> from everyparcel.charges import Prices
+>>> from everyparcel.runs import run
+>>> ledger(world, run(world), Prices.usual())
+[(3, ('sender', 'sender'), ('house', 'h'), 403, 'postage', 1)]
+""",
+    "settling": """
+>>> payments({"a": -5, "b": 3, "c": 2})
+[('a', 'b', 3), ('a', 'c', 2)]
+""",
 }
 
 

@@ -36,6 +36,36 @@ FUNCTIONS = {
         "fits(world, run, book)", "misfits(world, run, book)", "truth(world, run, now, *, failed=(), behind=None)",
     ],
     "booktexts": ["book_text(book)", "read_book(text)"],
+    "layers": [
+        "meets(world, run, wish)", "layers(world, book, *, wish=None, most=500)",
+        "first_course(world, book, *, wish=None, most=500)", "refutes(world, book, wish, table)",
+        "answer(world, book, wish, *, most=500)", "shows(world, book, wish, course)",
+        "reasons(world, book, wish, *, most=500)",
+    ],
+    "tellings": ["places(world, book, unit, tick, *, most=500)"],
+    "scanners": [
+        "blind_pair(world, sites, *, most=500)", "fewest_scanners(world, *, most=500)",
+        "scanner_paper(world, *, most=500)", "check_scanners(world, sites, pairs, *, most=500)",
+    ],
+    "promises": [
+        "delivery_ticks(world, ticket, *, book=None, most=500)", "is_given(world, ticket, day, *, book=None, most=500)",
+        "day_sure(world, ticket, *, book=None, most=500)", "promise_answer(world, ticket, day, *, book=None, most=500)",
+    ],
+    "quotes": [
+        "quote(world, parcel, *, most=500)", "quotes(world, parcel, *, most=500)",
+        "bears(world, ticket, day, limit, *, most=500)", "needs(world, ticket, day, *, most=500)",
+    ],
+    "ledgers": [
+        "ledger(world, run, prices)", "balances(postings)", "balance(postings, account)",
+        "booked(world, book, prices, *, most=500)",
+    ],
+    "ranges": [
+        "balance_range(world, book, prices, account, *, most=500)",
+        "range_answer(world, book, prices, account, *, most=500)",
+        "check_bars(world, book, prices, account, least, greatest, bars)",
+    ],
+    "settling": ["house_postings(postings)", "payments(balances)", "settled(balances, payments)"],
+    "house": ["tried(house, deed)"],
 }
 
 # The methods of a class follow its own line; a name without parentheses is a property.
@@ -101,7 +131,40 @@ CLASSES = {
         ],
     },
     "runs": {"Run": ["world", "standing(tick)", "position(unit, tick)", "delivered(ticket)"]},
+    "tellings": {
+        "Telling(world, book, *, most=500)": [
+            "course_count", "places(unit, tick)", "possible()", "sure()", "known(unit, tick)",
+        ],
+    },
+    "watches": {
+        "Watch(world, book, *, most=500)": [
+            "book", "note(record)", "strike(record)", "hear(house, tick)", "take(*books)", "places(unit, tick)",
+        ],
+    },
+    "charges": {
+        "Charge(word)": ["postings(world, event, tickets)"],
+        "Postage(base, per_weight)": ["postings(world, event, tickets)", "fee(parcel)"],
+        "Express(base, per_weight, express)": ["postings(world, event, tickets)", "fee(parcel)"],
+        "Refund(base, per_weight)": ["postings(world, event, tickets)", "fee(parcel)"],
+        "Toll()": ["postings(world, event, tickets)"],
+        "Duty()": ["postings(world, event, tickets)"],
+        "Cover(limit)": ["postings(world, event, tickets)"],
+        "Prices(*charges)": ["postings(world, event, tickets)", "words()", "usual()"],
+    },
+    "house": {
+        "House(network, sorting, *, tariffs=None, slips=0, wait=None, prices=None, most=500)": [
+            "accept(address, start, taken, *, weight=1, days=None, sender='sender', receiver='receiver', goods=())",
+            "hear(name, tick)", "note(record)", "strike(record)", "take(*books)", "places(unit, tick)",
+            "day_sure(ticket)", "between(account)", "balance(account)", "settle()", "change_most(value)", "trial()",
+            "world", "book", "prices", "course_count", "journal", "most", "__len__()", "__contains__(ticket)",
+        ],
+        "Trial": ["__enter__()", "__exit__(kind, value, trace)"],
+    },
 }
+
+# The class directly above each class that does not stand alone.
+BASES = {"Postage": "Charge", "Express": "Postage", "Refund": "Postage", "Toll": "Charge", "Duty": "Charge",
+         "Cover": "Charge"}
 
 CONSTANTS = {
     "timetable": {"DAY": 24}, "tables": {"HERE": ""}, "tariffs": {"ANY": "", "BARRED": None}, "standings": {"MOST": 500},
@@ -154,6 +217,16 @@ class InterfaceTest(unittest.TestCase):
                     name = method.split("(")[0]
                     self.assertIn(name, vars(kind), line)
                     self.assertEqual(told_member(vars(kind)[name], name), method)
+
+    def test_the_classes_above_the_charges(self):
+        for name, base in BASES.items():
+            kind = getattr(module_of("charges"), name)
+            self.assertEqual(kind.__bases__, (getattr(module_of("charges"), base),))
+            self.assertIsInstance(kind(*[1 for _ in inspect.signature(kind).parameters]).word, str)
+
+    def test_the_property_that_can_be_assigned(self):
+        kind = module_of("house").House
+        self.assertEqual([name for name, member in vars(kind).items() if isinstance(member, property) and member.fset], ["most"])
 
     def test_the_generator(self):
         self.assertTrue(inspect.isgeneratorfunction(module_of("runs").courses))
