@@ -173,7 +173,7 @@ class House:
     def settle(self):
         """The payments that settle what the houses owe each other by the postings that are booked."""
         found = balances(house_postings(self.state.posted))
-        names = sorted(set([site.house for site in self.state.stage.network.sites]))
+        names = [site.house for site in self.state.stage.network.sites]
         return payments({name: found.get(("house", name), 0) for name in names})
 
     def trial(self):

@@ -23,23 +23,15 @@ def _tickets_in(world, holders, unit):
     return [ticket for ticket in world.tickets if _is_in(holders, ticket, unit)]
 
 
-def _held_after(holders, event):
-    """The bags in which units lie directly after the event."""
-    _, kind, unit, where = event
-    if kind == "packed":
-        return {**holders, unit: where}
-    if kind == "emptied":
-        return {one: bag for one, bag in holders.items() if bag != unit}
-    return holders
-
-
 def postings_of(world, standing, events, prices):
     """The postings of events that follow each other from the standing on."""
     holders = {unit: name for unit, (kind, name) in zip(world.units, standing[1]) if kind == "in"}
     found = []
     for event in events:
         found.extend(prices.postings(world, event, _tickets_in(world, holders, event[2])))
-        holders = _held_after(holders, event)
+        # A bag that was emptied has no event any more, so nothing needs to be taken out of it.
+        if event[1] == "packed":
+            holders[event[2]] = event[3]
     return found
 
 

@@ -181,10 +181,11 @@ def made_rich_world(chance):
     for number in range(chance.randint(2, 5)):
         start, goal = chance.choice(["ab", "ab", "bc", "bc", "ac"])
         leaves = chance.randint(0, 4) if start == "a" else chance.randint(3, 9)
-        trips.append(Trip(f"t{number}", start, goal, leaves, leaves + chance.randint(1, 4), late=chance.choice([0, 1, 2]),
-                          room=chance.choice([1, 2, 9]), toll=chance.choice([0, 2, 5])))
+        trips.append(Trip(f"t{number}", start, goal, leaves, leaves + chance.randint(1, 4),
+                          late=chance.choice([0, 1, 2]), room=chance.choice([1, 2, 9]), toll=chance.choice([0, 2, 5])))
     closings = [Closing("k", *chance.choice(["ab", "bc", "ac"]), chance.randint(0, 6))] * chance.randint(0, 1)
-    lanes = {"a": [("1", HERE), ("2", "b"), ("3", chance.choice("bbc"))], "b": [("2", HERE), ("3", "c")], "c": [("3", HERE)]}
+    lanes = {"a": [("1", HERE), ("2", "b"), ("3", chance.choice("bbc"))], "b": [("2", HERE), ("3", "c")],
+             "c": [("3", HERE)]}
     sorting = Sorting({name: Table(rows) for name, rows in lanes.items()})
     parcels = [made_rich_parcel(chance, ticket) for ticket in sorted(chance.sample(range(1, 13), chance.randint(1, 3)))]
     rates = [("1", ANY, 250), ("2", ANY, chance.choice([BARRED, 3]))]
@@ -197,7 +198,8 @@ def made_story_world(chance):
     """A row of three sites of three houses, with tolls, a border and claims, so that much depends on what happens."""
     sites = [Site("a", "h", "x", "1", searches=chance.choice([[], [3], [4, 6]])),
              Site("b", "k", "x", "2", lag=chance.choice([None, 0, 1])),
-             Site("c", "m", "y", "3", lag=chance.choice([None, 0, 2]), rounds=[12, 26], sittings=chance.choice([[9], [10, 25]]))]
+             Site("c", "m", "y", "3", lag=chance.choice([None, 0, 2]), rounds=[12, 26],
+                  sittings=chance.choice([[9], [10, 25]]))]
     trips = [Trip("t", "a", "b", 2, 4, late=chance.choice([1, 2])), Trip("u", "a", "b", 5, 6, late=1, toll=1),
              Trip("v", "b", "c", 4, 7, toll=6, room=chance.choice([1, 9])), Trip("w", "b", "c", 6, 9, toll=7, late=1),
              Trip("z", "b", "c", 8, 9, toll=8)]
@@ -207,8 +209,9 @@ def made_story_world(chance):
     parcels = []
     for ticket in range(1, chance.randint(1, 3) + 1):
         goods = [Good(f"1{ticket}", chance.choice([9, 4000, 60000]), "x")]
-        parcels.append(Parcel(ticket, chance.choice("3333" "1"), chance.choice("aaaab"), chance.randint(0, 2), days=chance.choice([None, 0]),
-                              weight=chance.randint(1, 9), sender=chance.choice(["ann", "bob"]), goods=goods))
+        parcels.append(Parcel(ticket, chance.choice("33331"), chance.choice("aaaab"), chance.randint(0, 2),
+                              days=chance.choice([None, 0]), weight=chance.randint(1, 9),
+                              sender=chance.choice(["ann", "bob"]), goods=goods))
     return World(Network(sites, trips, closings), sorting, parcels, tariffs=tariffs, slips=chance.choice([0, 0, 1]),
                  wait=chance.choice([None, 0]))
 
@@ -216,8 +219,9 @@ def made_story_world(chance):
 def made_rich_parcel(chance, ticket):
     # Each parcel has a heading of its own, so that no class of goods is shared.
     goods = [Good(f"{chance.choice('112')}{ticket}", chance.choice([0, 9, 4000, 60000]), "x")] * chance.randint(0, 2)
-    return Parcel(ticket, chance.choice("2333"), chance.choice("aaab"), chance.randint(0, 3), weight=chance.randint(1, 9),
-                  days=chance.choice([None, 0]), sender=chance.choice(["ann", "bob"]), goods=goods[:1])
+    return Parcel(ticket, chance.choice("2333"), chance.choice("aaab"), chance.randint(0, 3),
+                  weight=chance.randint(1, 9), days=chance.choice([None, 0]), sender=chance.choice(["ann", "bob"]),
+                  goods=goods[:1])
 
 
 def made_record(chance, world):

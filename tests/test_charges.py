@@ -23,8 +23,8 @@ def world_of(parcels=None, tariffs=None, wait=1):
     trips = [Trip("t", "a", "b", 5, 9, toll=6), Trip("u", "b", "a", 5, 9, toll=7), Trip("v", "a", "b", 5, 9)]
     network = Network(sites, trips, [Closing("c", "a", "b", 5)])
     if parcels is None:
-        parcels = [Parcel(1, "2", "a", 3, sender="ann", weight=4, days=1, goods=GOODS), Parcel(2, "1", "b", 4, sender="bob"),
-                   Parcel(3, "2", "a", 5, sender="bob", days=0)]
+        parcels = [Parcel(1, "2", "a", 3, sender="ann", weight=4, days=1, goods=GOODS),
+                   Parcel(2, "1", "b", 4, sender="bob"), Parcel(3, "2", "a", 5, sender="bob", days=0)]
     return World(network, Sorting({}), parcels, tariffs=tariffs, wait=wait)
 
 
@@ -67,7 +67,8 @@ class KindsTest(unittest.TestCase):
 
     def test_fees(self):
         parcel = Parcel(1, "2", "a", 3, weight=4, days=0)
-        self.assertEqual((Postage(10, 2).fee(parcel), Refund(10, 2).fee(parcel), Express(10, 2, 7).fee(parcel)), (18, 18, 25))
+        for charge, cents in [(Postage(10, 2), 18), (Refund(10, 2), 18), (Express(10, 2, 7), 25)]:
+            self.assertEqual(charge.fee(parcel), cents)
 
     def test_toll(self):
         self.assertEqual(Toll().word, "toll")
@@ -87,7 +88,8 @@ class KindsTest(unittest.TestCase):
         self.assertEqual(Postage(1, 1).postings(world, event, []), [])
         self.assertEqual([posting[5] for posting in Toll().postings(world, (5, "loaded", "c", "u"), (1, 3))], [1, 3])
         self.assertEqual([posting[5] for posting in Refund(1, 1).postings(world, (99, "out", 1, "a"), [1, 3])], [1, 3])
-        self.assertEqual([posting[4:] for posting in Cover(9).postings(world, (99, "out", 1, "a"), [1, 2, 3])], [("return", 1)])
+        told = Cover(9).postings(world, (99, "out", 1, "a"), [1, 2, 3])
+        self.assertEqual([posting[4:] for posting in told], [("return", 1)])
 
     def test_refund(self):
         self.assertEqual(Refund(400, 3).word, "refund")
@@ -103,8 +105,8 @@ class KindsTest(unittest.TestCase):
         self.assertEqual(Cover(9).word, "cover")
         for limit, cents in [(999, 999), (1000, 1000), (1001, 1000), (50000, 1000), (1, 1)]:
             self.check(Cover(limit), {"claimed": [(71, H, ANN, cents, "cover", 1)]}, tick=71)
-            self.check(Cover(limit), {"claimed": [(72, H, ANN, cents, "cover", 1)], "out": [(72, ANN, H, cents, "return", 1)]},
-                       tick=72)
+            told = {"claimed": [(72, H, ANN, cents, "cover", 1)], "out": [(72, ANN, H, cents, "return", 1)]}
+            self.check(Cover(limit), told, tick=72)
         self.check(Cover(0), {}, tick=72)
         # A parcel without goods has no worth.
         self.check(Cover(500), {}, 3, (3,), tick=999)
@@ -147,11 +149,13 @@ class DutyTest(unittest.TestCase):
         # 4.5 cents are rounded up to 5 and shared: two for the first two, one for the last one.
         parcels = [Parcel(1, "2", "a", 3, goods=[good]), Parcel(2, "1", "b", 23, goods=[good]),
                    Parcel(3, "9", "a", 4, goods=[good]), Parcel(4, "2", "a", 24, goods=[good]),
-                   Parcel(5, "2", "a", 3, goods=[good], sender="ann"), Parcel(6, "2", "a", 3, goods=[good], receiver="ann")]
+                   Parcel(5, "2", "a", 3, goods=[good], sender="ann"),
+                   Parcel(6, "2", "a", 3, goods=[good], receiver="ann")]
         world = world_of(parcels, {"y": tariff})
         self.assertEqual(duties(tariff, parcels), {1: 2, 2: 2, 3: 1, 4: 0, 5: 0, 6: 0})
         for ticket, cents in [(1, 2), (2, 2), (3, 1)]:
-            self.assertEqual(self.cleared(world, ticket), [(30, ("sender", "sender"), ("land", "y"), cents, "duty", ticket)])
+            told = [(30, ("sender", "sender"), ("land", "y"), cents, "duty", ticket)]
+            self.assertEqual(self.cleared(world, ticket), told)
         for ticket in (4, 5, 6):
             self.assertEqual(self.cleared(world, ticket), [])
         # A parcel more in the consignment changes what the others owe.
@@ -176,7 +180,8 @@ class PricesTest(unittest.TestCase):
 
     def test_the_words_in_their_order(self):
         self.assertEqual(Prices().words(), [])
-        self.assertEqual(Prices(Toll(), Charge("b"), Charge("a"), Express(1, 1, 1)).words(), ["toll", "b", "a", "postage"])
+        prices = Prices(Toll(), Charge("b"), Charge("a"), Express(1, 1, 1))
+        self.assertEqual(prices.words(), ["toll", "b", "a", "postage"])
 
     def test_the_usual_ones(self):
         prices = Prices.usual()
@@ -190,7 +195,8 @@ class PricesTest(unittest.TestCase):
                             ((5, "loaded", 2, "t"), [(5, K, H, 6, "toll", 2)]),
                             ((9, "cleared", 1, "b"), [(9, sender, ("land", "y"), 60, "duty", 1)]),
                             ((47, "claimed", 1, "a"), [(47, H, sender, 50000, "cover", 1)]),
-                            ((48, "out", 1, "b"), [(48, H, sender, 406, "refund", 1), (48, sender, H, 50000, "return", 1)])]:
+                            ((48, "out", 1, "b"), [(48, H, sender, 406, "refund", 1),
+                                                   (48, sender, H, 50000, "return", 1)])]:
             self.assertEqual(prices.postings(world, event, [event[2]]), told)
 
     def test_the_charges_in_their_order(self):

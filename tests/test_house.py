@@ -22,7 +22,6 @@ from everyparcel.tariffs import ANY, Tariff
 from everyparcel.tellings import Telling, places
 from everyparcel.truths import truth
 from everyparcel.watches import Watch
-from everyparcel.worlds import World
 from tests.brute import made_book, made_story_world
 from tests.helpers import invalid, raised, small_network, small_sorting, unknown
 from tests.plain import plain_courses
@@ -40,7 +39,8 @@ def small_house(**options):
 
 def row_network(**options):
     """From a of the house h by b of the house k to c: twice a day to b, and once on at a toll."""
-    sites = [Site("a", "h", "x", "1", **options), Site("b", "k", "x", "2", lag=0), Site("c", "h", "x", "3", rounds=[20, 44])]
+    sites = [Site("a", "h", "x", "1", **options), Site("b", "k", "x", "2", lag=0),
+             Site("c", "h", "x", "3", rounds=[20, 44])]
     trips = [Trip("t", "a", "b", 2, 4, late=1), Trip("u", "b", "c", 4, 9, toll=6), Trip("v", "b", "c", 5, 9, toll=7),
              Trip("w", "a", "b", 26, 28), Trip("y", "b", "c", 29, 31, toll=5)]
     return Network(sites, trips, [])
@@ -58,8 +58,8 @@ def all_of(house):
     """All that a house is, by what it tells."""
     book, world = house.book, house.world
     told = [house.places(unit, tick) for unit in world.units for tick in range(0, 60, 3)]
-    return (len(house), [vars(parcel) for parcel in world.parcels], book.heard, book.records, book.struck, house.journal,
-            house.most, house.course_count, told, next_ticket(house))
+    return (len(house), [vars(parcel) for parcel in world.parcels], book.heard, book.records, book.struck,
+            house.journal, house.most, house.course_count, told, next_ticket(house))
 
 
 def next_ticket(house):
@@ -76,7 +76,8 @@ class NewHouseTest(unittest.TestCase):
         house = small_house()
         self.assertEqual((len(house), house.journal, house.course_count, house.most), (0, [], 1, 500))
         self.assertTrue(house.book == Book())
-        self.assertEqual((house.world.tickets, house.world.slips, house.world.wait, house.world.tariffs), ([], 0, None, {}))
+        world = house.world
+        self.assertEqual((world.tickets, world.slips, world.wait, world.tariffs), ([], 0, None, {}))
         self.assertEqual(house.settle(), [])
         self.assertEqual((house.balance(H), house.between(H)), (0, (0, 0)))
         self.assertNotIn(1, house)
@@ -122,6 +123,11 @@ class AcceptTest(unittest.TestCase):
         told = (parcel.ticket, parcel.address, parcel.start, parcel.taken, parcel.weight, parcel.days, parcel.sender,
                 parcel.receiver, parcel.worth)
         self.assertEqual(told, (1, "21", "s", 3, 4, 1, "ann", "bob", 9))
+
+    def test_the_options_left_out(self):
+        house = small_house()
+        house.accept("21", "s", 3)
+        self.assertEqual(vars(house.world.parcel(1)), vars(Parcel(1, "21", "s", 3)))
 
     def check(self, house, error, *given, **options):
         before = all_of(house)
@@ -490,7 +496,8 @@ class JournalTest(unittest.TestCase):
             # Nine parcels ride on the first trip; who has no room in it surely comes a day later.
             words = ["postage"] if ticket < 10 else ["postage", "toll"]
             told = house.journal[-len(words):]
-            self.assertEqual([(word, posting[4], posting[5]) for word, posting in told], [("post", word, ticket) for word in words])
+            self.assertEqual([(word, posting[4], posting[5]) for word, posting in told],
+                             [("post", word, ticket) for word in words])
         before = len(house.journal)
         house.note((4, "landed", 1, "b"))
         early = [(4, H, K, 6, "toll", ticket) for ticket in range(1, 10)]
@@ -516,7 +523,8 @@ class JournalTest(unittest.TestCase):
         # Of 24 cents the duty is 2: one cent for each, as the greater remainder is that of the second parcel.
         house.accept("9", "a", 11, goods=[Good("12", 9, "x")])
         self.assertEqual(house.journal[2:], [
-            ("void", duty), ("post", (9, SENDER, ("land", "y"), 1, "duty", 1)), ("post", (11, SENDER, H, 403, "postage", 2))])
+            ("void", duty), ("post", (9, SENDER, ("land", "y"), 1, "duty", 1)),
+            ("post", (11, SENDER, H, 403, "postage", 2))])
         before = house.journal
         house.accept("9", "a", 11, goods=[Good("12", 50, "x")], receiver="other")
         house.accept("9", "a", 24, goods=[Good("12", 50, "x")])
@@ -595,7 +603,8 @@ class SmallWorldsTest(unittest.TestCase):
                     told = run(house.world, chance.choice(branches).course())
                     book = truth(house.world, told, chance.randint(0, 12)) + made_book(chance, house.world, branches)
                     self.learn(house, self.parts_of(chance, book), deeds)
-        self.assertGreater(min(deeds.get(word, 0) for word in ["post", "void", "Refused", "Late", "Contradiction"]), 3, deeds)
+        words = ["post", "void", "Refused", "Late", "Contradiction"]
+        self.assertGreater(min(deeds.get(word, 0) for word in words), 3, deeds)
 
     def accept(self, house, parcel, options, deeds):
         new = Parcel(len(house) + 1, parcel.address, parcel.start, parcel.taken, **options)

@@ -3,6 +3,7 @@
 import ast
 import builtins
 import functools
+import itertools
 import pathlib
 import re
 import unittest
@@ -236,6 +237,58 @@ class ImportsTest(unittest.TestCase):
             self.assertTrue(free, imports)
             for name in free:
                 del imports[name]
+
+
+def members():
+    """The methods, properties and static methods of each class, and the attributes that its methods assign."""
+    for path, node in nodes(ast.ClassDef):
+        kinds = {"method": set(), "property": set(), "static": set(), "attribute": set()}
+        for member in node.body:
+            if isinstance(member, ast.FunctionDef):
+                words = [getattr(one, "id", getattr(one, "attr", None)) for one in member.decorator_list]
+                told = {"property": "property", "setter": "property", "staticmethod": "static"}
+                kind = told.get(words[0], "method") if words else "method"
+                kinds[kind].add(member.name)
+                for part in ast.walk(member):
+                    if isinstance(part, ast.Attribute) and isinstance(part.ctx, ast.Store):
+                        kinds["attribute"].add(part.attr)
+        yield path, node, kinds
+
+
+class MembersTest(unittest.TestCase):
+    """L5, L18 and L23: no name stands for two kinds of members."""
+
+    def test_each_name_is_of_one_kind(self):
+        found = {"method": set(), "property": set(), "static": set(), "attribute": set()}
+        for _, _, kinds in members():
+            for kind, names in kinds.items():
+                found[kind] |= {name for name in names if not name.startswith("__")}
+        assigned = {"most"}
+        for kind, other in itertools.combinations(found, 2):
+            self.assertEqual((found[kind] & found[other]) - assigned, set(), (kind, other))
+
+    def test_generators_have_names_of_their_own(self):
+        yielding = {node.name for _, node in nodes(ast.FunctionDef)
+                    if any(isinstance(one, ast.Yield) for one in ast.walk(node))}
+        self.assertEqual(yielding, {"courses", "walks"})
+        for _, _, kinds in members():
+            for names in kinds.values():
+                self.assertEqual(names & yielding, set())
+
+    def test_contexts_only_assign_at_their_end(self):
+        found = [node for _, node in nodes(ast.FunctionDef) if node.name == "__exit__"]
+        self.assertEqual(len(found), 1)
+        for node in found:
+            for row in node.body:
+                self.assertIsInstance(row, ast.Assign)
+                self.assertIsInstance(row.value, ast.Attribute)
+
+    def test_super_is_called_in_methods_only(self):
+        for path, node in nodes(ast.Call):
+            if isinstance(node.func, ast.Name) and node.func.id == "super":
+                self.assertEqual(node.args + node.keywords, [], path)
+        for path, node in nodes((ast.ListComp, ast.DictComp, ast.SetComp, ast.Lambda)):
+            self.assertNotIn("super", {part.id for part in ast.walk(node) if isinstance(part, ast.Name)}, path)
 
 
 class CallsTest(unittest.TestCase):

@@ -484,7 +484,8 @@ class ReasonsTest(unittest.TestCase):
 
     def test_two_records_that_only_together_refute(self):
         # The third parcel is left behind if and only if the first two have both landed before the trip leaves.
-        trips = [Trip("t", "a", "b", 1, 5, late=1), Trip("u", "a", "b", 2, 5, late=1), Trip("v", "b", "c", 5, 8, room=2)]
+        trips = [Trip("t", "a", "b", 1, 5, late=1), Trip("u", "a", "b", 2, 5, late=1),
+                 Trip("v", "b", "c", 5, 8, room=2)]
         world = world_of(parcels_of(1) + parcels_of(2, taken=2) + [Parcel(3, "3", "b", 0)], trips)
         landed = [(5, "landed", 1, "b"), (5, "landed", 2, "b")]
         book = Book({}, landed + [(0, "taken", 1, "a"), (2, "taken", 2, "a"), (0, "taken", 3, "b")])

@@ -32,8 +32,9 @@ def bag_world(parcels, closings, trips, **sites):
     """Sites a to d, of which a has the house h and the others k; all parcels go from a by b to c."""
     found = [Site(name, "h" if name == "a" else "k", "x", str(code), **sites.get(name, {}))
              for code, name in enumerate("abcd", 1)]
-    sorting = Sorting({"a": Table([("3", "b"), ("2", "b"), ("4", "b")]), "b": Table([("3", "c"), ("4", "c"), ("2", HERE)]),
-                       "c": Table([("3", HERE), ("4", "d")]), "d": Table([("4", HERE)])})
+    sorting = Sorting({"a": Table([("3", "b"), ("2", "b"), ("4", "b")]),
+                       "b": Table([("3", "c"), ("4", "c"), ("2", HERE)]), "c": Table([("3", HERE), ("4", "d")]),
+                       "d": Table([("4", HERE)])})
     return World(Network(found, trips, closings), sorting, parcels)
 
 
@@ -66,8 +67,8 @@ class LedgerTest(unittest.TestCase):
         parcels = [Parcel(ticket, "3", "a", 0) for ticket in (1, 2)] + [Parcel(4, "3", "b", 7)]
         closings = [Closing("k", "b", "c", 7, size=2)]
         world = bag_world(parcels, closings, [trips[0], Trip("u", "b", "c", 7, 9, toll=2)])
-        self.assertEqual([event[1:] for event in run(world).events if event[0] == 7],
-                         [("taken", 4, "b"), ("packed", 1, "k"), ("packed", 2, "k"), ("loaded", "k", "u"), ("loaded", 4, "u")])
+        self.assertEqual([event[1:] for event in run(world).events if event[0] == 7], [
+            ("taken", 4, "b"), ("packed", 1, "k"), ("packed", 2, "k"), ("loaded", "k", "u"), ("loaded", 4, "u")])
         self.assertEqual(ledger(world, run(world), Prices(Toll())), [(7, H, K, 2, "toll", 1), (7, H, K, 2, "toll", 2)])
 
     def test_a_bag_that_lands_and_is_emptied_at_once(self):
@@ -92,11 +93,22 @@ class LedgerTest(unittest.TestCase):
         self.assertEqual([event for event, _ in seen], run(world).events)
         told = {event[1:]: tickets for event, tickets in seen}
         for event, tickets in [
-                (("packed", 3, "k"), [3]), (("packed", 5, "k"), [5]), (("packed", 1, "m"), [1]), (("packed", "k", "m"), [3, 5]),
-                (("loaded", "m", "t"), [1, 3, 5]), (("landed", "m", "b"), [1, 3, 5]), (("packed", "m", "n"), [1, 3, 5]),
+                (("packed", 3, "k"), [3]), (("packed", 5, "k"), [5]), (("packed", 1, "m"), [1]),
+                (("packed", "k", "m"), [3, 5]), (("loaded", "m", "t"), [1, 3, 5]), (("landed", "m", "b"), [1, 3, 5]),
+                (("emptied", "n", "c"), [1, 2, 3, 5]), (("packed", "m", "n"), [1, 3, 5]),
                 (("packed", 2, "n"), [2]), (("loaded", "n", "u"), [1, 2, 3, 5]), (("landed", "n", "c"), [1, 2, 3, 5]),
                 (("loaded", "k", "v"), [3, 5]), (("landed", "k", "d"), [3, 5]), (("loaded", 2, "v"), [2])]:
             self.assertEqual(told[event], tickets, event)
+
+    def test_a_bag_that_has_the_name_of_a_site_and_a_trip(self):
+        # What lies at the site b, or rides on the trip b, does not lie in the bag b.
+        closings = [Closing("b", "a", "c", 2), Closing("t", "b", "c", 9)]
+        trips = [Trip("b", "a", "b", 1, 8), Trip("t", "a", "b", 3, 5), Trip("u", "b", "c", 6, 9, toll=2)]
+        world = bag_world([Parcel(1, "3", "a", 0), Parcel(2, "3", "a", 2), Parcel(4, "2", "a", 2)], closings, trips)
+        self.assertEqual([event[1:] for event in run(world).events if event[0] in (3, 6)],
+                         [("loaded", "b", "t"), ("loaded", 4, "t"), ("loaded", "b", "u")])
+        self.assertEqual(ledger(world, run(world), Prices(Toll())), [(6, H, K, 2, "toll", 2)])
+        self.assertEqual(booked(world, Book(), Prices(Toll())), [(6, H, K, 2, "toll", 2)])
 
     def test_the_lists_are_new(self):
         world = small_world()
@@ -133,8 +145,8 @@ class BalancesTest(unittest.TestCase):
         self.assertEqual(told, {H: 0, K: 0})
 
     def test_one_account(self):
-        for account, cents in [(H, 6), (K, -6), (("land", "y"), 20), (SENDER, -20), (("house", "w"), 0), (("land", "h"), 0),
-                               (("sender", "k"), 0)]:
+        for account, cents in [(H, 6), (K, -6), (("land", "y"), 20), (SENDER, -20), (("house", "w"), 0),
+                               (("land", "h"), 0), (("sender", "k"), 0)]:
             self.assertEqual(balance(self.POSTINGS, account), cents)
         self.assertEqual(balance([], H), 0)
         self.assertEqual(balance(tuple(self.POSTINGS), H), 6)
@@ -150,7 +162,7 @@ class BookedTest(unittest.TestCase):
     def fork(self):
         """A parcel of the house h, which may be mislaid by the first of two trips of the house k."""
         lanes = {"a": [("3", "b")], "b": [("3", "c")], "c": [("3", HERE)]}
-        sites = [Site("a", "h", "x", "1"), Site("b", "k", "x", "2"), Site("c", "h", "x", "3", rounds=[20]), site_of("d")]
+        sites = [Site("b", "k", "x", "2"), Site("c", "h", "x", "3", rounds=[20])]
         trips = [Trip("t", "a", "b", 1, 4, toll=5), Trip("u", "b", "c", 6, 9, toll=7)]
         return world_of(parcels_of(1), trips, lanes=lanes, sites=sites, slips=1)
 
@@ -167,7 +179,8 @@ class BookedTest(unittest.TestCase):
     def test_a_posting_that_every_course_has_by_another_event(self):
         # By one trip or by the other, the parcel leaves b at the tick 6, and the toll is the same.
         sites = [Site("b", "k", "x", "2", searches=[8])]
-        trips = [Trip("t", "a", "b", 1, 4, late=1), Trip("u", "b", "c", 6, 9, toll=7, room=1), Trip("v", "b", "c", 6, 9, toll=7)]
+        trips = [Trip("t", "a", "b", 1, 4, late=1), Trip("u", "b", "c", 6, 9, toll=7, room=1),
+                 Trip("v", "b", "c", 6, 9, toll=7)]
         parcels = [Parcel(2, "3", "a", 0), Parcel(3, "3", "b", 0)]
         world = world_of(parcels, trips, sites=sites)
         self.assertEqual(booked(world, Book(), Prices(Toll())), [(6, H, K, 7, "toll", 2)])
@@ -184,12 +197,13 @@ class BookedTest(unittest.TestCase):
         told = booked(world, Book(), Prices(Toll(), Postage(1, 0)))
         self.assertEqual([(posting[0], posting[4], posting[5]) for posting in told],
                          [(0, "postage", 9), (0, "postage", 10), (1, "postage", 2)])
-        parcels = parcels_of(10, 9) + [Parcel(8, "3", "b", 5), Parcel(7, "3", "b", 0)]
+        parcels = parcels_of(10, 9) + [Parcel(11, "3", "b", 5), Parcel(7, "3", "b", 0)]
         world = world_of(parcels, [Trip("t", "a", "b", 1, 4), Trip("u", "b", "c", 5, 9, toll=1)],
                          sites=[Site("b", "k", "x", "2")])
         told = booked(world, Book(), Prices(Toll(), Postage(1, 0)))
         self.assertEqual([(posting[0], posting[4], posting[5]) for posting in told], [
-            (0, "postage", 7), (0, "postage", 9), (0, "postage", 10), (5, "postage", 8), (5, "toll", 9), (5, "toll", 10)])
+            (0, "postage", 7), (0, "postage", 9), (0, "postage", 10), (5, "postage", 11), (5, "toll", 9),
+            (5, "toll", 10)])
 
     def test_errors(self):
         world = growing_world()
@@ -239,7 +253,8 @@ class BookedTest(unittest.TestCase):
             branch = chance.choice(branches)
             whole, book = truth(world, run(world, branch.course()), 15), Book()
             before = booked(world, book, Prices.usual())
-            deeds = [Book({}, [record]) for record in whole.records] + [Book({"h": 5}), Book({"k": 15}), Book({"h": 15})]
+            deeds = [Book({}, [record]) for record in whole.records]
+            deeds += [Book({"h": 5}), Book({"k": 15}), Book({"h": 15})]
             chance.shuffle(deeds)
             for deed in deeds:
                 if deed.records and is_overdue(world, book, deed.records[0]):

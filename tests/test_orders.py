@@ -46,7 +46,8 @@ PLAIN = {
 }
 
 GOOD_WISHES = [None, ("is", 1, 3, ("on", "t")), ("is", "k", 3, ("not", "")), ("late", 2, 9)]
-WRONG_WISHES = {("is", 3, 3, ("on", "t")): 3, ("is", "a", 3, ("on", "t")): "a", ("late", 3, 9): 3, ("late", "k", 9): "k"}
+WRONG_WISHES = {("is", 3, 3, ("on", "t")): 3, ("is", "a", 3, ("on", "t")): "a", ("late", 3, 9): 3,
+                ("late", "k", 9): "k"}
 
 # Each wrong record with its error, in the order of point 56.
 WRONG = {

@@ -38,10 +38,10 @@ class DeliveryTest(unittest.TestCase):
 
     def test_with_a_book(self):
         world = day_world(slips=1)
-        for records, told in [([(1, "loaded", 1, "t")], ([46, 47, 72], False)), ([(47, "landed", 1, "b")], ([47], False)),
-                              ([(46, "aboard", 1, "t")], ([47, 72], False)), ([(72, "out", 1, "b")], ([72], False)),
-                              ([], ([46, 47, 72], True))]:
-            self.assertEqual(delivery_ticks(world, 1, book=Book({}, records)), told)
+        for record, told in [((1, "loaded", 1, "t"), ([46, 47, 72], False)), ((47, "landed", 1, "b"), ([47], False)),
+                             ((46, "aboard", 1, "t"), ([47, 72], False)), ((72, "out", 1, "b"), ([72], False))]:
+            self.assertEqual(delivery_ticks(world, 1, book=Book({}, [record])), told)
+        self.assertEqual(delivery_ticks(world, 1, book=Book()), ([46, 47, 72], True))
         self.assertEqual(delivery_ticks(world, 1, book=None), ([46, 47, 72], True))
 
     def test_a_parcel_that_is_never_delivered(self):
@@ -53,7 +53,8 @@ class DeliveryTest(unittest.TestCase):
 
     def test_a_parcel_that_comes_in_a_bag(self):
         sites = [site_of("b", rounds=[30])]
-        world = world_of([Parcel(1, "2", "a", 0)], [Trip("t", "a", "b", 3, 9)], [Closing("k", "a", "b", 2)], sites=sites)
+        closings = [Closing("k", "a", "b", 2)]
+        world = world_of([Parcel(1, "2", "a", 0)], [Trip("t", "a", "b", 3, 9)], closings, sites=sites)
         self.assertEqual(delivery_ticks(world, 1), ([30], False))
 
 
@@ -261,11 +262,12 @@ class AloneTest(unittest.TestCase):
         for number in range(chance.randint(0, 9)):
             start, goal = chance.sample(names, 2)
             leaves = chance.randint(0, 20)
-            trips.append(Trip(f"t{number}", start, goal, leaves, leaves + chance.randint(1, 6), late=chance.randint(0, 5),
-                              room=chance.choice([0, 1, 9])))
+            trips.append(Trip(f"t{number}", start, goal, leaves, leaves + chance.randint(1, 6),
+                              late=chance.randint(0, 5), room=chance.choice([0, 1, 9])))
         tables = {name: Table([("3", chance.choice([other for other in names + "cc" if other != name] + [HERE]))])
                   for name in names if chance.random() < 0.9}
-        return World(Network(sites, trips, []), Sorting(tables), [Parcel(1, "31", chance.choice(names), chance.randint(0, 9))])
+        parcel = Parcel(1, "31", chance.choice(names), chance.randint(0, 9))
+        return World(Network(sites, trips, []), Sorting(tables), [parcel])
 
 
 if __name__ == "__main__":

@@ -64,9 +64,9 @@ class QuoteTest(unittest.TestCase):
                 self.assertEqual(raised(quotes, world, Parcel(ticket, "3", start, 0), most=1), invalid("world"))
         self.assertIsNone(raised(quote, world, Parcel(4, "3", "a", 0), most=16))
         # A ticket between those of the world is not greater than all of them.
-        world = daily_world([Parcel(5, "2", "a", 0)])
-        self.assertEqual(raised(quote, world, Parcel(4, "2", "a", 0)), invalid("world"))
-        self.assertEqual(raised(quote, world, Parcel(5, "2", "a", 0)), invalid("world"))
+        world = daily_world([Parcel(5, "2", "a", 0), Parcel(2, "1", "a", 0)])
+        for ticket in [1, 2, 3, 4, 5]:
+            self.assertEqual(raised(quote, world, Parcel(ticket, "2", "a", 0)), invalid("world"))
         self.assertEqual(quote(world, Parcel(6, "2", "a", 0)), 1)
 
     def test_an_unknown_start(self):

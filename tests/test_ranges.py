@@ -34,7 +34,8 @@ class RangeTest(unittest.TestCase):
         for account, told in [(K, (0, 14)), (H, (806 - 14, 806)), (SENDER, (-806, -806)), (("house", "w"), (0, 0))]:
             self.assertEqual(balance_range(world, Book(), USUAL, account), told)
         for records, told in [([(6, "loaded", 1, "u")], (7, 14)), ([(4, "landed", 1, "b")], (0, 14)),
-                              ([(6, "loaded", 1, "u"), (6, "loaded", 2, "u")], (14, 14)), ([(6, "aboard", 2, "u")], (7, 14))]:
+                              ([(6, "loaded", 1, "u"), (6, "loaded", 2, "u")], (14, 14)),
+                              ([(6, "aboard", 2, "u")], (7, 14))]:
             self.assertEqual(balance_range(world, Book({}, records), USUAL, K), told)
         self.assertEqual(balance_range(world, Book(), Prices(), K), (0, 0))
         self.assertEqual(balance_range(world, Book(), Prices(Toll()), H), (-14, 0))
@@ -77,12 +78,13 @@ class RangeTest(unittest.TestCase):
         # Each of 30 parcels may be too late for the one trip that takes it on at a toll.
         trips, parcels = [], []
         for k in range(30):
-            trips += [Trip(f"t{k}", "a", "b", 4 * k, 4 * k + 1, late=1), Trip(f"u{k}", "b", "c", 4 * k + 1, 4 * k + 3, toll=7)]
-            parcels += [parcel for parcel in parcels_of(k + 1, taken=4 * k)]
+            trips.append(Trip(f"t{k}", "a", "b", 4 * k, 4 * k + 1, late=1))
+            trips.append(Trip(f"u{k}", "b", "c", 4 * k + 1, 4 * k + 3, toll=7))
+            parcels += parcels_of(k + 1, taken=4 * k)
         world = world_of(parcels, trips, sites=[Site("b", "k", "x", "2", rounds=[4 * k + 3 for k in range(30)])],
                          lanes={"a": [("3", "b")], "b": [("3", "c")]})
-        self.assertEqual(balance_range(world, Book({}, [(6, "landed", 2, "b"), (9, "aboard", 3, "u2")]), Prices(Toll()), K, most=9),
-                         (7 * 29, 7 * 30))
+        book = Book({}, [(6, "landed", 2, "b"), (9, "aboard", 3, "u2")])
+        self.assertEqual(balance_range(world, book, Prices(Toll()), K, most=9), (7 * 29, 7 * 30))
 
 
 class BarsTest(unittest.TestCase):
@@ -148,7 +150,9 @@ class BarsTest(unittest.TestCase):
         book = Book({}, [(9, "landed", 1, "c"), (9, "landed", 2, "c")])
         least, greatest, _, _, bars = range_answer(self.world, book, USUAL, K)
         self.assertEqual((least, greatest), (14, 14))
-        nones = [(number, standing) for number, layer in enumerate(bars) for standing, pair in layer.items() if pair is None]
+        nones = []
+        for number, layer in enumerate(bars):
+            nones += [(number, standing) for standing, pair in layer.items() if pair is None]
         self.assertEqual(sorted({number for number, _ in nones}), [2, 3, 4])
         self.check(bars, True, 14, 14, book)
         for number, standing in nones:

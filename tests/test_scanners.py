@@ -9,7 +9,7 @@ from everyparcel.parcels import Parcel
 from everyparcel.runs import count_courses, courses, run
 from everyparcel.scanners import blind_pair, check_scanners, fewest_scanners, scanner_paper
 from everyparcel.sorting import Sorting
-from everyparcel.tables import HERE, Table
+from everyparcel.tables import Table
 from everyparcel.worlds import World
 from tests.brute import place_of, small_worlds
 from tests.helpers import raised, unknown

@@ -15,8 +15,9 @@ H, K, ANN, LAND = ("house", "h"), ("house", "k"), ("sender", "ann"), ("land", "x
 
 class HousePostingsTest(unittest.TestCase):
     def test_only_between_houses_and_in_their_order(self):
-        postings = [(9, H, K, 2, "toll", 3), (0, ANN, H, 400, "postage", 1), (5, K, H, 6, "toll", 2), (5, ANN, LAND, 7, "duty", 1),
-                    (7, H, ANN, 1, "cover", 1), (1, H, K, 3, "toll", 1), (1, ("sender", "h"), ("house", "k"), 3, "x", 1)]
+        postings = [(9, H, K, 2, "toll", 3), (0, ANN, H, 400, "postage", 1), (5, K, H, 6, "toll", 2),
+                    (5, ANN, LAND, 7, "duty", 1), (7, H, ANN, 1, "cover", 1), (1, H, K, 3, "toll", 1),
+                    (1, ("sender", "h"), ("house", "k"), 3, "x", 1)]
         told = [postings[0], postings[2], postings[5]]
         self.assertEqual(house_postings(postings), told)
         self.assertEqual(house_postings(tuple(postings)), told)
@@ -86,8 +87,8 @@ class SettledTest(unittest.TestCase):
 
     def test_unknown_payers_and_payees(self):
         given = {"a": -5, "b": 5}
-        for some, name in [([("x", "y", 1)], "x"), ([("a", "y", 1)], "y"), ([("a", "b", 1), ("b", "w", 1), ("v", "a", 1)], "w"),
-                           ([("a", "b", 1), ("v", "w", 1)], "v")]:
+        for some, name in [([("x", "y", 1)], "x"), ([("a", "y", 1)], "y"),
+                           ([("a", "b", 1), ("b", "w", 1), ("v", "a", 1)], "w"), ([("a", "b", 1), ("v", "w", 1)], "v")]:
             self.assertEqual(raised(settled, given, some), unknown(name))
         self.assertEqual(given, {"a": -5, "b": 5})
 
@@ -105,8 +106,9 @@ class SmallWorldsTest(unittest.TestCase):
                 postings = house_postings(ledger(world, run(world, course), Prices.usual()))
                 found = balances(postings)
                 self.assertTrue(all(posting[4] == "toll" for posting in postings))
-                told = payments({name: cents for (_, name), cents in found.items()})
-                self.assertEqual(set(settled({name: cents for (_, name), cents in found.items()}, told).values()) - {0}, set())
+                named = {name: cents for (_, name), cents in found.items()}
+                told = payments(named)
+                self.assertEqual(settled(named, told), {name: 0 for name in named})
                 several += len(told) > 0
         self.assertGreater(several, 30)
 

@@ -13,8 +13,9 @@ DEEDS = [
     lambda desk: desk.accept("21", "s", 30, days=None), lambda desk: desk.hear("h", 9), lambda desk: desk.note(LANDED),
     lambda desk: desk.strike(LANDED), lambda desk: desk.take(Book({"k": 3}, [(8, "aboard", 1, "t1")])),
     lambda desk: desk.change_most(7), lambda desk: setattr(desk, "most", 99), lambda desk: desk.places(1, 8),
-    lambda desk: desk.day_sure(1), lambda desk: desk.between(H), lambda desk: desk.balance(H), lambda desk: desk.settle(),
-    lambda desk: (desk.world, desk.book, desk.prices, desk.course_count, desk.journal, desk.most, len(desk), 1 in desk),
+    lambda desk: desk.day_sure(1), lambda desk: desk.between(H), lambda desk: desk.balance(H),
+    lambda desk: desk.settle(), lambda desk: (desk.world, desk.book, desk.prices, desk.course_count),
+    lambda desk: (desk.journal, desk.most, len(desk), 1 in desk),
 ]
 WRONG = [
     (lambda desk: desk.accept("x", "s", 30), "Invalid"), (lambda desk: desk.note((3, "taken", 9, "s")), "Unknown"),

@@ -116,7 +116,8 @@ class ErrorsTest(unittest.TestCase):
                               ((3, "packed", 1, "t1"), unknown("t1"))]:
             watch = Watch(small_world(), Book({"h": 2}, [LANDED], [(9, "out", 1, "n")]))
             self.check_stays(watch, lambda: watch.note(record), error)
-            self.check_stays(watch, lambda: watch.take(Book({"h": 9}), Book({}, [(5, "loaded", 1, "t1"), record])), error)
+            others = [Book({"h": 9}), Book({}, [(5, "loaded", 1, "t1"), record])]
+            self.check_stays(watch, lambda: watch.take(*others), error)
             self.assertEqual(raised(Watch, small_world(), Book({}, [record])), error)
 
     def test_struck_records_are_not_looked_at(self):
@@ -214,8 +215,7 @@ class SmallWorldsTest(unittest.TestCase):
             for deed in self.deeds(chance, world, branches):
                 deed(book)
                 after = self.places(world, branches, book)
-                told = [(ticket, tick, before[ticket, tick], after[ticket, tick])
-                        for ticket in world.tickets for tick in world.ticks if before[ticket, tick] != after[ticket, tick]]
+                told = [(*key, before[key], after[key]) for key in before if before[key] != after[key]]
                 self.assertEqual(deed(watch), told)
                 self.assertTrue(watch.book == book)
                 new = Watch(world, book)
@@ -229,7 +229,8 @@ class SmallWorldsTest(unittest.TestCase):
 
     def places(self, world, branches, book):
         some = fitting(world, branches, book)
-        return {(ticket, tick): places_of(world, some, ticket, tick) for ticket in world.tickets for tick in world.ticks}
+        keys = [(ticket, tick) for ticket in world.tickets for tick in world.ticks]
+        return {key: places_of(world, some, *key) for key in keys}
 
 
 if __name__ == "__main__":

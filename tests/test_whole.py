@@ -23,7 +23,8 @@ from tests.brute import (
 )
 from tests.plain import plain_courses
 
-ACCOUNTS = [("house", "h"), ("house", "k"), ("house", "m"), ("sender", "ann"), ("sender", "bob"), ("land", "y"), ("land", "w")]
+ACCOUNTS = [("house", "h"), ("house", "k"), ("house", "m"), ("sender", "ann"), ("sender", "bob"), ("land", "y"),
+            ("land", "w")]
 PACKAGE = pathlib.Path(__file__).resolve().parent.parent / "everyparcel"
 
 
@@ -73,16 +74,19 @@ class StoryTest(unittest.TestCase):
 
     def check_accounts(self, house, branch, some):
         """The true balance lies between two that are true in a course; with one course, all are the same."""
+        wide = 0
         for account in ACCOUNTS:
             least, greatest = house.between(account)
+            wide += least < greatest
             true = plain_balance(plain_postings(house.world, branch), account)
             sums = [plain_balance(plain_postings(house.world, other), account) for other in some]
             self.assertEqual((least, greatest), (min(sums), max(sums)))
             self.assertTrue(least <= true <= greatest)
             if len(some) == 1:
                 self.assertEqual((least, house.balance(account), greatest), (true, true, true))
-                self.assertEqual(balance(ledger(house.world, run(house.world, branch.course()), house.prices), account), true)
-        return len({house.between(account) for account in ACCOUNTS if house.between(account)[0] < house.between(account)[1]})
+                postings = ledger(house.world, run(house.world, branch.course()), house.prices)
+                self.assertEqual(balance(postings, account), true)
+        return wide
 
     def check_promises(self, house, branches):
         """Each accepted promise is kept in every course."""
@@ -127,7 +131,8 @@ class EqualHousesTest(unittest.TestCase):
             one.take(book)
             deeds = [lambda record=record: other.note(record) for record in book.records]
             deeds += [lambda record=record: other.strike(record) for record in book.struck]
-            deeds += [lambda house=house, tick=tick: other.take(Book({house: tick}, book.records)) for house, tick in book.heard.items()]
+            parts = [Book({house: tick}, book.records) for house, tick in book.heard.items()]
+            deeds += [lambda part=part: other.take(part) for part in parts]
             deeds += [lambda: other.take(book, book), lambda: other.hear("h", 0)] if "h" in book.heard else []
             chance.shuffle(deeds)
             for deed in deeds:
@@ -179,7 +184,8 @@ class MainPromiseTest(unittest.TestCase):
                     word, paper = answer(world, book, wish)
                     words[word] += 1
                     self.assertEqual(word == "yes", place in told.places(unit, tick))
-                    self.assertIs(shows(world, book, wish, paper) if word == "yes" else refutes(world, book, wish, paper), True)
+                    check = shows if word == "yes" else refutes
+                    self.assertIs(check(world, book, wish, paper), True)
             for account in ACCOUNTS:
                 least, greatest, low, high, bars = range_answer(world, book, Prices.usual(), account)
                 self.assertIs(check_bars(world, book, Prices.usual(), account, least, greatest, bars), True)
@@ -215,12 +221,14 @@ class UnchangedTest(unittest.TestCase):
             course = branches[-1].course()
             for call in [
                     lambda: layers.layers(world, book, wish=wish), lambda: layers.answer(world, book, wish),
-                    lambda: layers.refutes(world, book, wish, layers.layers(world, book)), lambda: layers.meets(world, told, wish),
+                    lambda: layers.refutes(world, book, wish, layers.layers(world, book)),
+                    lambda: layers.meets(world, told, wish),
                     lambda: layers.shows(world, book, wish, course), lambda: layers.reasons(world, book, wish),
                     lambda: layers.first_course(world, book), lambda: tellings.places(world, book, ticket, 9),
                     lambda: tellings.Telling(world, book).possible(), lambda: watches.Watch(world, book).hear("h", 0),
                     lambda: scanners.scanner_paper(world), lambda: scanners.check_scanners(world, ["a"], []),
-                    lambda: scanners.blind_pair(world, ["a"]), lambda: promises.promise_answer(world, ticket, 0, book=book),
+                    lambda: scanners.blind_pair(world, ["a"]),
+                    lambda: promises.promise_answer(world, ticket, 0, book=book),
                     lambda: promises.delivery_ticks(world, ticket), lambda: quotes.quotes(world, parcel, most=9999),
                     lambda: quotes.bears(world, ticket, 0, 1), lambda: quotes.needs(world, ticket, 0),
                     lambda: ledgers.ledger(world, told, prices), lambda: ledgers.booked(world, book, prices),
