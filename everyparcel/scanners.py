@@ -32,8 +32,8 @@ def _plays(world, most):
     for walk in walks(world):
         if len(found) == most:
             raise TooMany(most, None)
-        found.append(Play(world, walk))
-    return found
+        found.append(walk)
+    return [Play(world, walk) for walk in found]
 
 
 def _site_names(world):
